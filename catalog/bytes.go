@@ -114,7 +114,9 @@ func (r *reader) kind() int { return r.upTo(api.Text) }
 func (r *reader) place() int { return r.upTo(api.MaxColumns) }
 
 func (r *reader) text() string {
-	end := min(r.upTo(api.MaxSource), len(r.rest))
+	// In a statement of its own: reading a number shortens the rest, whose length must be asked behind that.
+	count := r.upTo(api.MaxSource)
+	end := min(count, len(r.rest))
 	// A piece of what was handed in would be its memory.
 	s := strings.Clone(r.rest[:end])
 	r.rest = r.rest[end:]
