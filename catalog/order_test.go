@@ -489,7 +489,7 @@ func faultsOf(t *testing.T, source string) []int {
 	return slices.Compact(lines)
 }
 
-func TestOpenOrdersAreFound(t *testing.T) {
+func TestR6OpenOrdersAreFound(t *testing.T) {
 	if got := faultsOf(t, openOrders); !slices.Equal(got, []int{9, 10, 11, 12, 13, 14, 15, 16, 17, 18, 19}) {
 		t.Errorf("open in the lines %v", got)
 	}
@@ -498,8 +498,8 @@ func TestOpenOrdersAreFound(t *testing.T) {
 	}
 }
 
-// C5 and all other promises: what a call answers hangs on no order that Go leaves open.
-func TestNoOrderIsLeftOpen(t *testing.T) {
+// What a call answers (of C5 too, where it once was otherwise) hangs on no order that Go leaves open.
+func TestR6NoOrderIsLeftOpen(t *testing.T) {
 	p := newProgram()
 	folders, _ := filepath.Glob("../*/*.go")
 	for _, name := range folders {
